@@ -1,0 +1,1 @@
+"""Lotsayings: sayings of lots, compiled to machines on trees and narrow webs."""

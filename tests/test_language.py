@@ -1,0 +1,58 @@
+"""The files of the package keep to the language, and define what the interface lists."""
+
+import ast
+import unittest
+
+from tests import language
+
+INTERFACE = {
+    "errors": "LotError BadWeb BadBench BadMachine BadNumber TooMany BadTerm BadSaying BadText BadName NoLot TooGreat "
+    "BadLot BadOrder OtherBench OtherTracks NotOnTrees NotWeb NotPicked",
+    "cuts": "is_int check_number cut",
+    "webs": "Web lot_of moved equal_by symmetries",
+    "benches": "Bench",
+    "terms": "check_term size_of many_of is_narrow web_of labels_of tracks_of colour bare put leaf_at changed hung "
+    "all_terms",
+    "lots": "is_name is_place_name check_expression names_in lot_by",
+    "sayings": "check_saying free_names counts_of is_plain nest_of put_in both_of either_of",
+    "texts": "written read_saying",
+    "meanings": "means fitting number_fitting",
+    "machines": "Machine bits_number bits_of Answer",
+    "founds": "first_terms reached useful way_out",
+    "leasts": "least in_order groups apart",
+    "steps": "pairs sets_without rows_without moved_letters common",
+    "atoms": "atom_machine",
+}
+CLASSES = {
+    "Web": "__init__ __eq__ __len__ __iter__ arrow sent renumbered of_lot",
+    "Bench": "__init__ __eq__ __len__ trees boughs cotrees narrow_rows",
+    "Machine": "__init__ __eq__ __len__ states state answers state_in accepting told __invert__ __and__ __or__ __xor__",
+    "Answer": "__init__ __call__",
+}
+
+
+class LanguageTest(unittest.TestCase):
+    def test_rules(self):
+        self.assertEqual(language.all_wrong(), [])
+
+    def test_files(self):
+        self.assertEqual(language.strange_files(), [])
+
+    def test_no_circles(self):
+        self.assertEqual(language.in_circles(), [])
+
+    def test_interface_is_defined_where_it_is_listed(self):
+        package = language.Package()
+        for module, names in INTERFACE.items():
+            for name in names.split():
+                self.assertIn(name, package.defined[module], module)
+
+    def test_methods_stand_in_their_class(self):
+        found = {}
+        for path in language.PACKAGE.glob("*.py"):
+            for node in ast.parse(path.read_text()).body:
+                if isinstance(node, ast.ClassDef):
+                    found[node.name] = [part.name for part in node.body if isinstance(part, ast.FunctionDef)]
+        for name, methods in CLASSES.items():
+            for method in methods.split():
+                self.assertIn(method, found[name], name)

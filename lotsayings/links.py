@@ -71,7 +71,8 @@ class ArrowCodes:
             for number in range(len(self.rows[0])):
                 row = [0] * (self.roles.kept + 1)
                 for side in (SOURCE, TARGET):
-                    row[self.roles.kind_of((side, label))] += self.rows[side][number]
+                    kind = self.roles.kind_of((side, label))
+                    row[kind] = row[kind] + self.rows[side][number]
                 row[0] = 0
                 codes.append(self.code_of(row))
         return codes
@@ -89,9 +90,11 @@ class ArrowCodes:
         """The code of a join, with so many arrows between its parts."""
         row = [0] * len(left)
         for kind, number in enumerate(left):
-            row[self.roles.lefts[j][kind]] += number
+            goal = self.roles.lefts[j][kind]
+            row[goal] = row[goal] + number
         for kind, number in enumerate(right):
-            row[self.roles.rights[j][kind]] += number
+            goal = self.roles.rights[j][kind]
+            row[goal] = row[goal] + number
         row[0] = left[0] + right[0] + arrows
         return self.code_of(row)
 
@@ -100,9 +103,9 @@ class ArrowCodes:
         row = [0] * len(code)
         for left, right in self.roles.pairs[j]:
             if on_right:
-                row[left] += code[right]
+                row[left] = row[left] + code[right]
             else:
-                row[right] += code[left]
+                row[right] = row[right] + code[left]
         return row
 
     def within(self, context, j, code, on_right):
@@ -112,7 +115,7 @@ class ArrowCodes:
         mine, others = (lefts, rights) if on_right else (rights, lefts)
         row = self.gains(j, code, on_right)
         for kind in range(1, len(row)):
-            row[kind] += reach(context, mine[kind])
+            row[kind] = row[kind] + reach(context, mine[kind])
         arrows = [number * reach(context, others[kind]) for kind, number in enumerate(code) if kind > 0]
         row[0] = context[0] + code[0] + sum(arrows)
         return self.cut_row(row)

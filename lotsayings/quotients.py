@@ -17,7 +17,7 @@ def kept_alone(kinds):
     """For each state whether no other one is of its kind."""
     counts = [0] * len(kinds)
     for kind in kinds:
-        counts[kind] += 1
+        counts[kind] = counts[kind] + 1
     return [counts[kind] == 1 for kind in kinds]
 
 

@@ -78,36 +78,25 @@ def parts_of(saying, kind):
     return [saying[i + 1] for i, other in enumerate(kinds) if other == kind]
 
 
-def free_among(saying):
-    """A dict of True for each free name."""
+def names_among(saying, bound):
+    """A dict of True for each free name; with bound=True for each name that stands in the saying at all."""
     found = {}
     for expression in parts_of(saying, "lot"):
         for name in names_in(expression):
             found[name] = True
     for part in parts_of(saying, "saying"):
-        found.update(free_among(part))
+        found.update(names_among(part, bound))
     for name in parts_of(saying, "name"):
-        if name in found:
+        if bound:
+            found[name] = True
+        elif name in found:
             del found[name]
     return found
 
 
 def free_names(saying):
     """The free names, ascending."""
-    return tuple(sorted(free_among(saying)))
-
-
-def all_names(saying):
-    """A dict of True for each name that stands in the saying, free or bound."""
-    found = {}
-    for expression in parts_of(saying, "lot"):
-        for name in names_in(expression):
-            found[name] = True
-    for part in parts_of(saying, "saying"):
-        found.update(all_names(part))
-    for name in parts_of(saying, "name"):
-        found[name] = True
-    return found
+    return tuple(sorted(names_among(saying, False)))
 
 
 def counts_of(saying):
@@ -154,7 +143,7 @@ def put_in(saying, name, expression):
     if not is_name(name):
         raise BadName(name)
     check_expression(expression)
-    used = all_names(saying)
+    used = names_among(saying, True)
     for other in names_in(expression):
         used[other] = True
     return replaced(saying, name, expression, Spare(used))
@@ -162,7 +151,7 @@ def put_in(saying, name, expression):
 
 def replaced(saying, name, expression, spare):
     """The saying with the expression for the free name; spare gives the fresh names."""
-    if name not in free_among(saying):
+    if name not in names_among(saying, False):
         return saying
     word = saying[0]
     if word in BINDING:

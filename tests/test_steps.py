@@ -138,6 +138,15 @@ class RowsTest(unittest.TestCase):
             table = tuple(tuple((p + q + 1) % states for q in range(states)) for p in range(states))
             return Machine(TREES, 1, ((0, 0),), (table,), (states - 1,))
 
+        def capped(states):
+            table = tuple(tuple(min(p + q + 1, states - 1) for q in range(states)) for p in range(states))
+            return Machine(TREES, 1, ((0, 0),), (table,), (states - 1,))
+
+        # One row for each state but the last one, which has two.
+        self.assertEqual(rows_without(capped(99), 0, 1, 3).states, 100)
+        with self.assertRaises(TooGreat) as caught:
+            rows_without(capped(100), 0, 1, 3)
+        self.assertEqual(caught.exception.step, "rows")
         self.assertEqual(rows_without(free(25), 0, 1, 5).states, 100)
         with self.assertRaises(TooGreat) as caught:
             rows_without(free(27), 0, 1, 5)

@@ -104,6 +104,21 @@ class AtomTest(unittest.TestCase):
             atom_machine(("arrows", "X", "Y", 1, 2, 6), WIDE, ["X", "Y"])
         self.assertEqual(atom_machine(("arrows", "X", "Y", 0, 0, 4), Bench.cotrees(), ["X", "Y"]).states, 64)
 
+    def test_hundred_states_stand(self):
+        single = Bench(1, (0,), ((((0, 0),), (), (0,), (0,)),))
+        for bound in (2, 3, 4):
+            machine = atom_machine(("arrows", "X", "Y", 5, bound, 4), single, ["X", "Y"])
+            self.assertEqual(machine.states, 100)
+        join = (((0, 0), (1, 1)), ((0, 0),), (1, 1), (1, 1))
+        with self.assertRaises(TooGreat):
+            atom_machine(("arrows", "X", ("-", "Y", "X"), 5, 2, 4), Bench(2, (0, 1), (join,)), ["X", "Y"])
+
+    def test_five_tracks(self):
+        names = ["A", "B", "C", "D", "E"]
+        terms = [chance_term(seeded(37), TREES, size, 5) for size in range(1, 9)]
+        for saying in (("to", ("&", "A", "B"), ("|", "C", ("^", "D", "E"))), ("count", ("-", "E", "A"), 1, 1, 2)):
+            self.judge(atom_machine(saying, TREES, names), saying, TREES, names, terms)
+
     def test_bound_of_hundred_states_against_all_codes(self):
         chance = seeded(135)
         seen = set()

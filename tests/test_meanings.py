@@ -83,7 +83,12 @@ class MeansTest(unittest.TestCase):
         eleven = Web(11, ())
         saying = ("and", ("in", "B", "A"), ("in", "C", "x"))
         self.assertIs(means(("in", "A", "A"), ten, {"A": ()}), True)
-        for call in (means, lambda s, w, lots: fitting(s, w, "?", lots), lambda s, w, lots: number_fitting(s, w, 5, lots)):
+        calls = [
+            means,
+            lambda s, web, lots: fitting(s, web, "?", lots),
+            lambda s, web, lots: number_fitting(s, web, 5, lots),
+        ]
+        for call in calls:
             with self.assertRaises(TooMany) as caught:
                 call(saying, eleven, {})
             self.assertEqual(caught.exception.which, "places")

@@ -200,6 +200,8 @@ class ChangeTest(unittest.TestCase):
         self.assertEqual([leaf_at(term, x) for x in range(3)], [(0, (1,)), (0, (0,)), (0, (1,))])
         self.assertEqual(changed(term, 1, (1,)), (0, (0, (0, (1,)), (0, (1,))), (0, (1,))))
         self.assertEqual(leaf_at((2, ()), 0), (2, ()))
+        self.assertEqual(changed((2, (1,)), 0, (0,)), (2, (0,)))
+        self.assertEqual(changed(term, 0, (0,))[1][1], (0, (0,)))
         deep = hung(LEAF, LEAF, times=199)
         self.assertEqual(size_of(changed(deep, 199, ())), 200)
         for place in (3, -1, True, None):

@@ -33,20 +33,20 @@ class PairCodes:
     """The pairs of states of two machines; the pair of p and q has the code p * wide + q."""
 
     def __init__(self, one, two):
-        self.one = one
-        self.two = two
+        self.left = one
+        self.right = two
         self.wide = two.states
         self.joins = len(one.rows)
 
     def leaf_codes(self):
         """The codes of the leaves."""
-        row = in_one_row(self.two.leaves)
-        return [p * self.wide + q for p, q in zip(in_one_row(self.one.leaves), row)]
+        row = in_one_row(self.right.leaves)
+        return [p * self.wide + q for p, q in zip(in_one_row(self.left.leaves), row)]
 
     def join_codes(self, codes, at):
         """The codes of the shell of the found code with number at."""
         wide = self.wide
-        tables = list(zip(self.one.rows, self.two.rows))
+        tables = list(zip(self.left.rows, self.right.rows))
         pairs = [(code // wide, code % wide) for code in codes[:at + 1]]
         p, q = pairs[at]
         low = [one[x][p] * wide + two[y][q] for x, y in pairs[:at] for one, two in tables]

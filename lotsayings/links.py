@@ -120,7 +120,7 @@ class ArrowCodes:
         row[0] = context[0] + code[0] + sum(arrows)
         return self.cut_row(row)
 
-    def fits(self, context, code):
+    def suits(self, context, code):
         """Whether the context with a part of this code in its hole is accepted."""
         return self.cut_row([context[0] + code[0] + dot(context, code)])[0] == self.cuts[0]
 
@@ -156,4 +156,4 @@ def some_contexts(spec, codes):
 def told_apart(spec, codes):
     """How many of the codes some contexts tell apart, one from each other."""
     contexts = some_contexts(spec, codes)
-    return len(set([tuple([spec.fits(context, code) for context in contexts]) for code in codes]))
+    return len(set([tuple([spec.suits(context, code) for context in contexts]) for code in codes]))

@@ -2,10 +2,11 @@
 
 import random
 from itertools import combinations, product
+from math import prod
 
 from lotsayings.benches import Bench
 from lotsayings.machines import Machine
-from lotsayings.terms import all_terms, size_of
+from lotsayings.terms import all_terms, size_of, web_of
 
 NAMED = {
     "trees": Bench.trees(),
@@ -191,3 +192,38 @@ def true_by_sets(saying, size, arrows, lots):
 
 def seeded(seed):
     return random.Random(seed)
+
+
+def chance_web_machine(chance, many, cuts):
+    """A machine on trees that counts, by cuts, the children of each of as many chance colours."""
+    while prod(t + d for t, d in cuts) << many > 100:
+        cuts = cuts[1:]
+    base = max(t + d for t, d in cuts)
+    colours = {}
+
+    def colour_of(code):
+        return colours.setdefault(code, chance.randrange(len(cuts)))
+
+    def leaf(_, bits):
+        return sum(bit << k for k, bit in enumerate(bits))
+
+    def join(_, p, q):
+        colour = colour_of(q)
+        weight = base ** colour << many
+        count = p // weight % base
+        return p + (fold(count + 1, *cuts[colour]) - count) * weight
+
+    machine = Machine.told(Bench.trees(), many, leaf, join)
+    return machine.accepting(tuple(state for state in range(machine.states) if chance.random() < 0.5))
+
+
+def chance_cuts(chance):
+    return [(chance.randint(0, 2), chance.randint(1, 3)) for _ in range(chance.randint(1, 3))]
+
+
+def children_by_web(bench, term):
+    """For each place of a tree its children, told by the arrows."""
+    rows = {x: [] for x in range(size_of(term))}
+    for x, y in web_of(bench, term).arrows:
+        rows[x].append(y)
+    return rows

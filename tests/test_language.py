@@ -22,6 +22,13 @@ INTERFACE = {
     "leasts": "least in_order groups apart",
     "steps": "pairs sets_without rows_without moved_letters common",
     "atoms": "atom_machine",
+    "compiler": "machine_of name_machine",
+    "verdicts": "agree parting_term always never fitting_term counter_term gives giving_term says_same parting_lots",
+    "forms": "tree_row tree_term place_states exchange_way",
+    "hanging": "is_web_machine joins_alike two_terms",
+    "rings": "steps_of run_in ring counts_told ring_witness",
+    "backs": "back code_lots",
+    "bounds": "order_of num_bound",
 }
 CLASSES = {
     "Web": "__init__ __eq__ __len__ __iter__ arrow sent renumbered of_lot",

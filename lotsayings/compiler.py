@@ -65,36 +65,31 @@ class Parts:
         word = saying[0]
         if word in SINGLE:
             return atom_machine(saying, self.bench, free_names(saying))
+        inner = [self.of_part(part) for part in parts_of(saying, "saying")]
         if word == "not":
-            return ~self.of_part(saying[1])
+            return ~inner[0]
         if word == "and" or word == "or":
-            return self.of_both(saying)
+            return of_both(saying, inner)
+        last = len(free_names(saying))
         if word == "some":
-            return self.with_some_lot(saying)
+            return sets_without(self.bound_last(saying, inner[0]), last)
         if word == "all":
-            return ~self.with_some_lot(("some", saying[1], ("not", saying[2])))
-        bound = self.bound_last(saying)
-        return rows_without(bound, bound.many - 1, saying[1], saying[2])
+            return ~sets_without(self.bound_last(saying, ~inner[0]), last)
+        return rows_without(self.bound_last(saying, inner[0]), last, saying[1], saying[2])
 
-    def of_both(self, saying):
-        """The machine of "and" or "or"."""
-        free = free_names(saying)
-        one = self.of_part(saying[1])
-        two = self.of_part(saying[2])
-        one = with_tracks(one, free_names(saying[1]), free)
-        return pairs(one, with_tracks(two, free_names(saying[2]), free), saying[0])
-
-    def with_some_lot(self, saying):
-        """The machine of "some"."""
-        bound = self.bound_last(saying)
-        return sets_without(bound, bound.many - 1)
-
-    def bound_last(self, saying):
+    def bound_last(self, saying, inner):
         """The machine of what stands below a bound name, with the lots of this name as its last track."""
-        name, inner = saying[-2:]
+        name = saying[-2]
         tracks = free_names(saying) + (name,)
-        machine = with_tracks(self.of_part(inner), free_names(inner), tracks)
+        machine = with_tracks(inner, free_names(saying[-1]), tracks)
         if is_place_name(name):
             single = with_tracks(name_machine(name, self.bench), (name,), tracks)
             machine = pairs(machine, single, "and")
         return machine
+
+
+def of_both(saying, inner):
+    """The machine of "and" or "or", of the machines of its two parts."""
+    free = free_names(saying)
+    one, two = [with_tracks(machine, free_names(part), free) for machine, part in zip(inner, saying[1:])]
+    return pairs(one, two, saying[0])

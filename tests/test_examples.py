@@ -4,21 +4,30 @@ import unittest
 
 from lotsayings.backs import back
 from lotsayings.benches import Bench
+from lotsayings.bounds import num_bound, order_of
 from lotsayings.compiler import machine_of
-from lotsayings.errors import BadText, LotError
+from lotsayings.errors import BadText, LotError, TooGreat
 from lotsayings.forms import tree_row, tree_term
 from lotsayings.founds import first_terms
+from lotsayings.gathers import Gather
 from lotsayings.hanging import joins_alike
 from lotsayings.leasts import least
+from lotsayings.lots import lot_by
 from lotsayings.machines import Machine
-from lotsayings.meanings import fitting
+from lotsayings.marks import MarkTable
+from lotsayings.meanings import fitting, means
+from lotsayings.numbers import number_of, number_row
+from lotsayings.partings import inseparable, is_parted, least_parting, parting
+from lotsayings.picks import can_pick, picked, picker
 from lotsayings.rings import counts_told, ring, run_in
-from lotsayings.sayings import put_in
+from lotsayings.sayings import free_names, put_in
 from lotsayings.steps import rows_without
-from lotsayings.terms import hung, web_of
+from lotsayings.terms import colour, hung, web_of
 from lotsayings.texts import read_saying, written
+from lotsayings.unmoved import equal_children, is_unmoved, unmoved_lots
 from lotsayings.verdicts import always, parting_lots
 from lotsayings.webs import Web
+from tests.helpers import chance_expression, chance_saying, seeded
 
 TREES = Bench.trees()
 
@@ -72,6 +81,109 @@ class ExamplesTest(unittest.TestCase):
         told = f"some Z0 and all z or {' or '.join(entries[:3])} {entries[3]} "
         told += "some z and not to every z in z | none & every Z0"
         self.assertEqual(written(back(machine_of(("to", "every", "every"), TREES), ())), told)
+
+    def test_section_five(self):
+        self.assertEqual([num_bound(3, 1, 3), num_bound(4, 2, 3), num_bound(6, 1, 2), order_of(2, 14)], [6, 8, 6, 3])
+        apart = machine_of(("not", ("to", "X", "X")), TREES)
+        self.assertEqual((apart.states, ring(apart)), (3, 1))
+        for rest in range(3):
+            self.assertEqual(6 % ring(rows_without(apart, 0, rest, 3)), 0)
+        even = machine_of(("count", "every", 0, 0, 2), TREES)
+        self.assertEqual(even.state((0, ())), 0)
+        self.assertEqual(list(Gather(even, 1)), [(0,), (0, 1), (1,)])
+        self.assertEqual(list(Gather(even, 2)), [(0,), (1,)])
+        self.assertEqual(Gather(even, 1).some_of((0,), (0,), 0), (0, 1))
+        self.assertIs(is_parted(even, ~even, 3), False)
+        self.assertEqual((inseparable(even, ~even, 3), least_parting(even, ~even)), ((0, 1), 2))
+        self.assertEqual(parting(even, ~even, 2), even)
+
+    def test_section_six(self):
+        star = hung((0, ()), (0, ()), times=2)
+        self.assertEqual(equal_children(star), [(1, 2)])
+        self.assertIs(is_unmoved(star, [1]), False)
+        self.assertEqual(unmoved_lots(star), [(), (0,), (0, 1, 2), (1, 2)])
+        below = machine_of(("and", ("count", "X", 1, 2, 1), ("to", "every", "X")), TREES)
+        marks = [((0, 1), (0, 1)), ((0, 1, 2, 3), (0, 1, 2, 3)), ((0, 1, 2, 3), (0, 1, 3))]
+        self.assertEqual(list(MarkTable(below)), marks)
+        self.assertEqual(MarkTable(below).mark_of(star), marks[2])
+        self.assertIs(can_pick(below), False)
+        single = machine_of(("count", "X", 1, 2, 1), TREES)
+        row = hung((0, ()), hung((0, ()), (0, ())))
+        self.assertEqual((picked(single, row), picked(single, star)), ((2,), (0,)))
+        found = picker(single)
+        self.assertIs(found.answers(colour(star, [(0,)])), True)
+        self.assertIs(found.answers(colour(star, [(1,)])), False)
+
+    def test_section_seven(self):
+        apart = machine_of(("not", ("to", "X", "X")), TREES)
+        star = (0, (0, (0, ()), (0, ())), (0, ()))
+        self.assertEqual(number_row(apart, star), (4, 1, 3))
+        self.assertEqual((number_of(apart, star), number_of(apart, star, inside=2)), (5, 11))
+        for leaves in range(9):
+            self.assertEqual(number_of(apart, hung((0, ()), (0, ()), times=leaves)), 2 ** leaves + 1)
+
+
+class BuildingsTest(unittest.TestCase):
+    """Points 11, 13 and 33 for terms of several benches, or of one, that build equal coloured webs."""
+
+    def built_alike(self, chance, size):
+        """Pairs of benches and terms without tracks whose webs are the same."""
+        leaf = (0, ())
+        star = hung(leaf, leaf, times=size - 1)
+        beside = leaf
+        other = leaf
+        chain = leaf
+        narrow = leaf
+        for _ in range(size - 2):
+            beside = (0, beside, leaf) if chance.random() < 0.5 else (0, leaf, beside)
+            other = (0, other, leaf)
+        for _ in range(size - 1):
+            chain = (0, leaf, chain)
+            narrow = (0, narrow, leaf)
+        yield (Bench.boughs(), star), (Bench.cotrees(), (1, leaf, beside))
+        yield (TREES, chain), (Bench.narrow_rows(), narrow)
+        yield (Bench.cotrees(), (1, leaf, beside)), (Bench.cotrees(), (1, leaf, other))
+
+    def test_machines_and_meanings(self):
+        chance = seeded(981)
+        many = 0
+        for turn in range(60):
+            size = 2 + turn % 4
+            saying = chance_saying(chance, ["X", "Y", "x"], chance.randint(0, 3))
+            names = free_names(saying)
+            for one, two in self.built_alike(chance, size):
+                self.assertEqual(web_of(*one), web_of(*two))
+                lots = [tuple(x for x in range(size) if chance.random() < 0.5) for _ in names]
+                meant = means(saying, web_of(*one), dict(zip(names, lots)))
+                for bench, term in (one, two):
+                    try:
+                        machine = machine_of(saying, bench)
+                    except TooGreat:
+                        continue
+                    self.assertIs(machine.answers(colour(term, lots)), meant)
+                    many += 1
+        self.assertGreater(many, 200)
+
+    def test_put_in(self):
+        chance = seeded(982)
+        many = 0
+        for _ in range(40):
+            saying = chance_saying(chance, ["X", "Y"], chance.randint(0, 2))
+            expression = chance_expression(chance, ["Y", "X"])
+            whole = put_in(saying, "X", expression)
+            for one, two in self.built_alike(chance, 4):
+                lots = {name: tuple(x for x in range(4) if chance.random() < 0.5) for name in ("X", "Y")}
+                inner = {**lots, "X": lot_by(expression, 4, lots)}
+                meant = means(saying, web_of(*one), inner)
+                self.assertIs(means(whole, web_of(*two), lots), meant)
+                for bench, term in (one, two):
+                    try:
+                        machine = machine_of(whole, bench, names=["X", "Y"])
+                    except TooGreat:
+                        continue
+                    self.assertIs(machine.answers(colour(term, [lots["X"], lots["Y"]])), meant)
+                    many += 1
+        self.assertGreater(many, 100)
 
 
 if __name__ == "__main__":

@@ -29,12 +29,21 @@ INTERFACE = {
     "rings": "steps_of run_in ring counts_told ring_witness",
     "backs": "back code_lots",
     "bounds": "order_of num_bound",
+    "gathers": "Gather",
+    "partings": "is_parted inseparable parting between least_parting",
+    "unmoved": "lots_of is_unmoved unmoved_lots equal_children has_three",
+    "marks": "MarkTable",
+    "picks": "can_pick no_pick picked picker greatest_saying",
+    "numbers": "number_row number_of rests_of rest_term",
+    "fractions": "solved rank_of determinant kernel",
 }
 CLASSES = {
     "Web": "__init__ __eq__ __len__ __iter__ arrow sent renumbered of_lot",
     "Bench": "__init__ __eq__ __len__ trees boughs cotrees narrow_rows",
     "Machine": "__init__ __eq__ __len__ states state answers state_in accepting told __invert__ __and__ __or__ __xor__",
     "Answer": "__init__ __call__",
+    "Gather": "__init__ __len__ __iter__ __contains__ number one some_of made meets",
+    "MarkTable": "__init__ __iter__ number mark_of tree_for fits picks",
 }
 
 

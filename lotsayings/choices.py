@@ -107,7 +107,7 @@ class MarkNodes:
         wanted = [{state: True}]
         for layer, step in zip(layers[-2::-1], steps[::-1]):
             ahead = wanted[-1]
-            wanted.append({p: True for p in layer if any([goals[p] in ahead for _, goals in step[1]])})
+            wanted.append({x: True for x in layer if first_into(step[1], x, ahead) is not None})
         p = layers[0][0]
         way = []
         for step, ahead in zip(steps, wanted[-2::-1]):
@@ -118,7 +118,7 @@ class MarkNodes:
 
 
 def first_into(ways, p, ahead):
-    """The first pair (q, goals) of the ways that brings p to a state ahead."""
+    """The first pair (q, goals) of the ways that brings p to a state ahead, None if there is none."""
     for way in ways:
         if way[1][p] in ahead:
             return way

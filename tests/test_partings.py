@@ -1,5 +1,6 @@
 import unittest
 from collections import Counter
+from unittest.mock import patch
 
 from lotsayings.benches import Bench
 from lotsayings.compiler import machine_of
@@ -15,7 +16,8 @@ from lotsayings.steps import common
 from lotsayings.terms import hung
 from lotsayings.verdicts import gives, never
 from tests.helpers import (
-    chance_cuts, chance_machine, chance_saying, chance_term, chance_web_machine, children_by_web, seeded, small_terms,
+    chance_cuts, chance_machine, chance_saying, chance_term, chance_web_machine, children_by_web, fold, seeded,
+    small_terms,
 )
 
 TREES = Bench.trees()
@@ -24,9 +26,23 @@ LAST = Machine(TREES, 0, ((0,),), (((1, 0), (1, 0)),), (1,))
 NEVER = Machine(TREES, 0, ((0,),), (((0,),),), ())
 
 
+def enough(machine, kind):
+    """The number N_C of point 68."""
+    runs = [max(steps_of(machine, p, q)[0] for p in range(machine.states)) for q in kind]
+    return 1 + sum(max(0, run - 1) for run in runs)
+
+
+def hang(gather, base, kind, n):
+    """HANG(P, C, n) of point 68."""
+    if n >= enough(gather.machine, kind):
+        return gather.some_of(base, kind, n % gather.d)
+    for _ in range(n):
+        base = gather.one(base, kind)
+    return base
+
+
 def kind_by_hand(gather, term):
     """The kind of a tree as point 68 defines it."""
-    machine = gather.machine
     children = children_by_web(TREES, term)
     letters = []
 
@@ -39,21 +55,52 @@ def kind_by_hand(gather, term):
 
     leaves(term)
 
-    def enough(kind):
-        runs = [max(steps_of(machine, p, q)[0] for p in range(machine.states)) for q in kind]
-        return 1 + sum(max(0, run - 1) for run in runs)
-
     def kind_of(place):
-        base = (machine.leaves[0][letters[place]],)
+        base = (gather.machine.leaves[0][letters[place]],)
         for kind, n in Counter(kind_of(child) for child in children[place]).items():
-            if n < enough(kind):
-                for _ in range(n):
-                    base = gather.one(base, kind)
-            else:
-                base = gather.some_of(base, kind, n % gather.d)
+            base = hang(gather, base, kind, n)
         return base
 
     return kind_of(0)
+
+
+def cut_by_hand(gather, kind):
+    """The numbers t_C and d_C of point 68, told by all numbers up to some beyond N_C."""
+    most = enough(gather.machine, kind) + 3 * gather.d
+    rows = [[hang(gather, base, kind, n) for base in gather] for n in range(most)]
+    for d in range(1, gather.d + 1):
+        alike = [rows[n] == rows[n + d] for n in range(most - d)]
+        if all(alike[-gather.d:]):
+            return next(t for t in range(most) if all(alike[t:])), d
+
+
+def census_by_hand(gather, most):
+    """The number of census nodes of trees; None if there are more than most."""
+    machine = gather.machine
+    cuts = {}
+    kinds = {}
+    todo = [(k, ()) for k in range(len(machine.leaves[0]))]
+    known = {}
+    while todo:
+        for node in todo:
+            base = (machine.leaves[0][node[0]],)
+            for kind, n in node[1]:
+                base = hang(gather, base, kind, n)
+            known[node] = base
+            kinds[base] = True
+        if len(known) > most:
+            return None
+        fresh = {}
+        for k, pairs in known:
+            for kind in kinds:
+                t, d = cuts[kind] if kind in cuts else cuts.setdefault(kind, cut_by_hand(gather, kind))
+                counts = dict(pairs)
+                counts[kind] = fold(counts.get(kind, 0) + 1, t, d)
+                node = (k, tuple(sorted(pair for pair in counts.items() if pair[1])))
+                if node not in known:
+                    fresh[node] = True
+        todo = list(fresh)
+    return len(known)
 
 
 def apart_from(chance, machine):
@@ -178,7 +225,7 @@ class PartingTest(unittest.TestCase):
             states = inseparable(one, two, d)
             if states is None:
                 continue
-            whole, first, second = common(one, two)
+            whole = common(one, two)[0]
             gather = Gather(whole, d)
             trees = trees_along(gather, states, 7)
             self.assertEqual(sorted(trees), list(states))
@@ -318,6 +365,33 @@ class RefusalTest(unittest.TestCase):
         with self.assertRaises(TooGreat) as caught:
             between(leafy(75, 2), always, 1)
         self.assertEqual(caught.exception.step, "nodes")
+
+    def test_number_of_census_nodes(self):
+        chance = seeded(670)
+        sizes = set()
+        for _ in range(100):
+            many = chance.randint(0, 1)
+            one = chance_web_machine(chance, many, [(chance.randint(0, 1), chance.randint(1, 3))] * chance.randint(1, 2))
+            two = apart_from(chance, one) & chance_web_machine(chance, many, [(0, 2)])
+            d = chance.randint(1, 6)
+            try:
+                if not is_parted(one, two, d):
+                    continue
+            except LotError:
+                continue
+            if Gather(common(one, two)[0], d).number > 20:
+                continue
+            nodes = census_by_hand(Gather(common(one, two)[0], d), 70)
+            if nodes is None:
+                continue
+            sizes.add(nodes)
+            with patch("lotsayings.partings.MOST_NODES", nodes):
+                found = parting(one, two, d)
+            self.assertEqual(found, parting(one, two, d))
+            with patch("lotsayings.partings.MOST_NODES", nodes - 1):
+                with self.assertRaises(TooGreat):
+                    parting(one, two, d)
+        self.assertGreater(len(sizes), 5)
 
     def test_nothing_is_answered_true(self):
         self.assertEqual(parting(NEVER, NEVER, 1), NEVER)

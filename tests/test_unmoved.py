@@ -3,7 +3,6 @@ import unittest
 from lotsayings.benches import Bench
 from lotsayings.compiler import machine_of
 from lotsayings.errors import BadLot, BadTerm, NotOnTrees, NotWeb, OtherTracks, TooMany
-from lotsayings.forms import tree_row
 from lotsayings.machines import Machine
 from lotsayings.terms import hung, size_of, tracks_of, web_of
 from lotsayings.unmoved import equal_children, has_three, is_unmoved, lots_of, unmoved_lots

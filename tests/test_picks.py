@@ -218,6 +218,19 @@ class PickTest(unittest.TestCase):
         self.assertIs(picker(SINGLE).answers(colour(STAR, [(0,)])), True)
         self.assertIs(picker(SINGLE).answers(colour(STAR, [(1,)])), False)
 
+    def test_order_of_marks(self):
+        """Here the marks are not found in ascending order, and choices are compared by ascending marks."""
+        rows = tuple(tuple(p if p > 3 or q in (0, 3) else p + 4 for q in range(8)) for p in range(8))
+        machine = Machine(TREES, 2, ((0, 1, 2, 3),), (rows,), (4, 5, 7))
+        one, two = (0, (0,)), (0, (1,))
+        term = hung(hung(one, two), one)
+        self.assertEqual(picked_by_hand(machine, term), (1, 2))
+        self.assertEqual(picked(machine, term), (1, 2))
+        self.assertEqual(list(lots_of(picker(machine), term)), [(1, 2)])
+        term = hung(hung(two, hung(two, two)), hung(one, hung(two, hung(one, one))))
+        self.assertEqual(picked_by_hand(machine, term), (1, 2, 3, 4))
+        self.assertEqual(picked(machine, term), (1, 2, 3, 4))
+
     def test_great_trees(self):
         chance = seeded(782)
         machine = machine_of(("all", "x", ("or", ("in", "x", "X"), ("to", "x", "X"))), TREES)
@@ -286,6 +299,23 @@ class PickNodesTest(unittest.TestCase):
                     picker(machine)
                 self.assertEqual(caught.exception.step, "nodes")
         self.assertGreater(len(sizes), 5)
+
+    def test_one_node_more_than_a_thousand(self):
+        """The bits of the root, and whether its number of children is odd."""
+        rows = tuple((p + 8 if p < 8 else p - 8,) * 16 for p in range(16))
+        machine = Machine(TREES, 3, (tuple(range(8)),), (rows,), (3, 4, 5, 8, 10))
+        table = MarkTable(machine)
+        self.assertIs(can_pick(machine), True)
+        self.assertEqual(len(Nodes(PickNodes(table), 1001).all_nodes), 1001)
+        with self.assertRaises(TooGreat) as caught:
+            picker(machine)
+        self.assertEqual(caught.exception.step, "nodes")
+        with patch("lotsayings.picks.MOST_PICK_NODES", 1001):
+            found = picker(machine)
+        leaf = (0, (0, 1))
+        for term in (leaf, hung(leaf, leaf), hung(leaf, (0, (1, 1)), times=2)):
+            lot = picked(machine, term)
+            self.assertEqual(list(lots_of(found, term)), [] if lot is None else [lot])
 
     def test_thousand_nodes(self):
         chance = seeded(784)

@@ -11,7 +11,6 @@ from lotsayings.terms import check_term, colour, is_joined, size_of, tracks_of
 from lotsayings.webs import lot_of
 
 MOST_PLACES = 10
-MOST_ALIKE = 2
 
 
 def check_counted(machine):
@@ -66,7 +65,7 @@ def alike_children(term):
         groups = {}
         for child in row:
             groups.setdefault(kinds[child], []).append(child)
-        found.extend([tuple(group) for group in list(groups.values()) if len(group) >= MOST_ALIKE])
+        found.extend([tuple(group) for group in list(groups.values()) if len(group) > 1])
     return sorted(found)
 
 

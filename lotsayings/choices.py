@@ -15,10 +15,10 @@ class MarkNodes:
     """
 
     def __init__(self, machine):
-        self.table = machine.rows[0]
+        self.products = machine.rows[0]
         self.leaves = machine.leaves[0]
-        self.letters = len(self.leaves) // 2
-        self.walks = all_walks(self.table)
+        self.half = len(self.leaves) // 2
+        self.walks = all_walks(self.products)
         self.marks = []
         self.numbers = {}
         self.cuts = []
@@ -27,14 +27,14 @@ class MarkNodes:
     def first_nodes(self):
         """The nodes of the leaves."""
         nodes = []
-        for k in range(self.letters):
+        for k in range(self.half):
             states = [self.leaf(k, bit) for bit in (0, 1)]
             nodes.append((tuple(sorted(set(states))), k, ()))
         return nodes
 
     def leaf(self, k, bit):
         """The state of the leaf with these bits, and with this one as its last."""
-        return self.leaves[k + self.letters * bit]
+        return self.leaves[k + self.half * bit]
 
     def label_for(self, node):
         """The number of the mark of the trees with this node; a new mark is kept."""
@@ -60,7 +60,7 @@ class MarkNodes:
     def with_child(self, node, label):
         """The node with a child of a mark more."""
         states, k, pairs = node
-        found = {self.table[p][q]: True for p in states for q in self.marks[label][0]}
+        found = {self.products[p][q]: True for p in states for q in self.marks[label][0]}
         counts = {number: many for number, many in pairs}
         t, d = self.cuts[label]
         counts[label] = folded(counts.get(label, 0) + 1, t, d)
@@ -68,9 +68,9 @@ class MarkNodes:
 
     def hung(self, q, many):
         """For each state what it becomes if the state q is hung so often."""
-        rows = self.hangings.setdefault(q, [list(range(len(self.table)))])
+        rows = self.hangings.setdefault(q, [list(range(len(self.products)))])
         while len(rows) <= many:
-            rows.append([self.table[p][q] for p in rows[-1]])
+            rows.append([self.products[p][q] for p in rows[-1]])
         return rows[many]
 
     def options(self, node):

@@ -13,6 +13,11 @@ def is_between(value, low, high):
     return is_int(value) and low <= value <= high
 
 
+def are_integers(value, many):
+    """Whether value is a tuple or list of so many integers."""
+    return isinstance(value, (list, tuple)) and len(value) == many and all([is_int(number) for number in value])
+
+
 def check_number(value, which, low, high):
     """Value, if it is an integer from low to high (None: no bound), else BadNumber(which)."""
     if not is_int(value):

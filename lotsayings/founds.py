@@ -2,6 +2,7 @@
 
 from lotsayings.cuts import check_number
 from lotsayings.machines import bits_of, found_states
+from lotsayings.walks import context_around
 
 
 class Fewest:
@@ -15,7 +16,7 @@ class Fewest:
         self.machine = machine
         self.sizes = [None] * machine.states
         self.found = [None] * machine.states
-        self.ways = [None] * machine.states
+        self.origins = [None] * machine.states
         self.settled = []
         for label, row in zip(machine.bench.starts, machine.leaves):
             for number, state in enumerate(row):
@@ -29,7 +30,7 @@ class Fewest:
         """Keeps a way to a state, a leaf or a triple of a join and two states, if its size is less."""
         if self.sizes[state] is None or size < self.sizes[state]:
             self.sizes[state] = size
-            self.ways[state] = way
+            self.origins[state] = way
 
     def waiting(self):
         """The pairs of sizes and states that are known and not settled."""
@@ -38,7 +39,7 @@ class Fewest:
 
     def settle(self, state):
         """Makes the term of a state, and offers what the state makes with each settled one."""
-        way = self.ways[state]
+        way = self.origins[state]
         self.found[state] = way if len(way) == 2 else (way[0], self.found[way[1]], self.found[way[2]])
         self.settled.append(state)
         for j, table in enumerate(self.machine.rows):
@@ -123,7 +124,4 @@ def step_to(machine, state, step):
 
 def context_of(row, terms):
     """The context of a row of steps, the first one around the hole; terms has one for each state."""
-    context = None
-    for j, side, other in row:
-        context = (j, terms[other], context) if side else (j, context, terms[other])
-    return context
+    return context_around([(j, side, terms[other]) for j, side, other in row])

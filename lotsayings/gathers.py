@@ -108,11 +108,11 @@ class Gathering:
     """
 
     def __init__(self, machine, d):
-        self.table = machine.rows[0]
+        self.products = machine.rows[0]
         self.d = d
         self.found = {}
         self.order = []
-        self.members = []
+        self.states_of = []
         self.goals = []
         self.settled = []
         for k, state in enumerate(machine.leaves[0]):
@@ -129,7 +129,7 @@ class Gathering:
             return
         self.found[number] = origin
         self.order.append(number)
-        self.members.append(lot_of_mask(number, len(self.table)))
+        self.states_of.append(lot_of_mask(number, len(self.products)))
         self.goals.append({})
         self.settled.append({})
         if len(self.order) > MOST_SETS:
@@ -141,12 +141,12 @@ class Gathering:
         first = len(goals)
         if first == len(self.order):
             return
-        states = self.members[kind]
-        single = [mask_of([row[c] for c in states]) for row in self.table]
+        states = self.states_of[kind]
+        single = [mask_of([row[c] for c in states]) for row in self.products]
         at = first
         while at < len(self.order):
             goal = 0
-            for p in self.members[at]:
+            for p in self.states_of[at]:
                 goal |= single[p]
             goals[self.order[at]] = goal
             self.note(goal, ("one", self.order[at], self.order[kind]))
@@ -178,7 +178,7 @@ class Gathering:
 
     def all_origins(self):
         """A dict from each set to how it is made, all sets as tuples."""
-        sets = {number: states for number, states in zip(self.order, self.members)}
+        sets = {number: states for number, states in zip(self.order, self.states_of)}
         told = {}
         for number, origin in self.found.items():
             if origin[0] != "leaf":

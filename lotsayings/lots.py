@@ -65,7 +65,7 @@ def mask_of(lot):
     """A number with the digit of 2^x for each place x of the lot."""
     mask = 0
     for place in lot:
-        mask |= 1 << place
+        mask = mask | 1 << place
     return mask
 
 

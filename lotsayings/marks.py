@@ -43,7 +43,7 @@ class MarkTable:
         """A tree of this mark with the fewest places, in which children of equal mark have equal subtrees."""
         if self.places_of(mark) > MOST_PLACES:
             raise TooMany("places")
-        return self.smallest.terms[self.smallest.best[self.number_of_mark(mark)]]
+        return self.smallest.built[self.smallest.best[self.number_of_mark(mark)]]
 
     def places_of(self, mark):
         """The fewest places of a tree of this mark."""
@@ -94,7 +94,7 @@ class Smallest:
         self.tracks = tracks
         self.known = [None] * len(nodes.all_nodes)
         self.origins = [None] * len(nodes.all_nodes)
-        self.terms = [None] * len(nodes.all_nodes)
+        self.built = [None] * len(nodes.all_nodes)
         self.settled = []
         self.sizes = [None] * len(nodes.all_labels)
         self.best = [None] * len(nodes.all_labels)
@@ -118,7 +118,7 @@ class Smallest:
     def settle(self, node):
         """Hangs all marks with a known tree on a node, and its own mark on the settled ones; the nodes made so."""
         self.settled.append(node)
-        self.terms[node] = self.term_for(self.origins[node])
+        self.built[node] = self.term_for(self.origins[node])
         label = self.nodes.labels[node]
         pairs = [(node, other) for other, size in enumerate(self.sizes) if size is not None]
         if self.sizes[label] is None:
@@ -137,4 +137,4 @@ class Smallest:
         if len(origin) == 1:
             return (0, bits_of(origin[0], self.tracks))
         base, hanging = origin
-        return (0, self.terms[base], self.terms[self.best[hanging]])
+        return (0, self.built[base], self.built[self.best[hanging]])

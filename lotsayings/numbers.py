@@ -20,28 +20,33 @@ def check_tracks(machine):
         raise OtherTracks()
 
 
+def both_states(machine, leaf):
+    """The states of a leaf without the last track: with 0 and with 1 in it."""
+    row = machine.leaves[machine.bench.starts.index(leaf[0])]
+    return [row[bits_number(leaf[1] + (bit,))] for bit in (0, 1)]
+
+
 def number_row(machine, term, *, inside=1, outside=1):
     """For each state the weighted number of the lots that lead the machine to it."""
     check_tracks(machine)
     check_term(machine.bench, term, machine.many - 1)
     check_number(inside, "inside", -MOST_WEIGHT, MOST_WEIGHT)
     check_number(outside, "outside", -MOST_WEIGHT, MOST_WEIGHT)
-    leaves = {label: row for label, row in zip(machine.bench.starts, machine.leaves)}
     rows = []
     for step in postfix(term):
         if isinstance(step, tuple):
-            rows.append(leaf_numbers(machine.states, leaves[step[0]], step[1], (outside, inside)))
+            rows.append(leaf_numbers(machine, step, (outside, inside)))
         else:
             right = rows.pop()
             rows.append(joined_numbers(machine.rows[step], rows.pop(), right))
     return tuple(rows[0])
 
 
-def leaf_numbers(states, row, bits, weights):
-    """The number row of a leaf without the last track; row has the states of the leaves with it."""
-    numbers = [0] * states
-    for bit, weight in enumerate(weights):
-        numbers[row[bits_number(bits + (bit,))]] += weight
+def leaf_numbers(machine, leaf, weights):
+    """The number row of a leaf without the last track; weights are those with 0 and with 1 in it."""
+    numbers = [0] * machine.states
+    for state, weight in zip(both_states(machine, leaf), weights):
+        numbers[state] += weight
     return numbers
 
 

@@ -88,24 +88,24 @@ class PickNodes:
     """
 
     def __init__(self, table):
-        self.table = table
+        self.mark_table = table
         self.spec = table.spec
-        self.live = useful(table.machine)
+        self.useful_states = useful(table.machine)
         self.choices = {}
 
     def first_nodes(self):
         """The nodes of the leaves."""
-        first = self.table.nodes.first
+        first = self.mark_table.nodes.first
         return [self.checked((node, bit, ())) for bit in (0, 1) for node in first]
 
     def checked(self, node):
         """The node, or DEAD if its state is not useful."""
-        return node if self.state_of(node) in self.live else DEAD
+        return node if self.state_of(node) in self.useful_states else DEAD
 
     def state_of(self, node):
         """The state of the terms with this node."""
         number, bit, pairs = node
-        _, k, counts = self.table.nodes.all_nodes[number]
+        _, k, counts = self.mark_table.nodes.all_nodes[number]
         states = {label: q for label, q in pairs}
         state = self.spec.leaf(k, bit)
         for label, many in counts:
@@ -119,11 +119,11 @@ class PickNodes:
         number, bit, pairs = node
         state = self.state_of(node)
         if (number, state) not in self.choices:
-            found, way = self.spec.first_choice(self.table.nodes.all_nodes[number], state)
+            found, way = self.spec.first_choice(self.mark_table.nodes.all_nodes[number], state)
             self.choices[number, state] = (found, tuple(sorted(way)))
         if self.choices[number, state] != (bit, pairs):
             return None
-        return self.table.nodes.labels[number], state
+        return self.mark_table.nodes.labels[number], state
 
     def with_child(self, node, label):
         """The node with a child more that has this mark and this state."""
@@ -134,13 +134,13 @@ class PickNodes:
         states = {other: q for other, q in pairs}
         if states.setdefault(mark, state) != state:
             return DEAD
-        goal = self.table.nodes.steps[number][mark]
+        goal = self.mark_table.nodes.steps[number][mark]
         return self.checked((goal, bit, tuple([(other, states[other]) for other in sorted(states)])))
 
     def is_picked(self, node):
         """Whether the lot of the terms with this node is the picked one."""
         label = self.label_for(node)
-        return label is not None and label[1] == picked_state(self.table, node[0])
+        return label is not None and label[1] == picked_state(self.mark_table, node[0])
 
 
 def greatest_saying(saying, name):

@@ -45,3 +45,43 @@ def with_leaves(term, leaves):
             steps[i] = leaves[taken]
             taken += 1
     return rebuilt(steps)
+
+
+def numbered_parts(term):
+    """The postfix of a term, each step as a triple with the numbers of the steps of its two parts, or None twice."""
+    nodes = []
+    waiting = []
+    for step in postfix(term):
+        if is_int(step):
+            right = waiting.pop()
+            nodes.append((step, waiting.pop(), right))
+        else:
+            nodes.append((step, None, None))
+        waiting.append(len(nodes) - 1)
+    return nodes
+
+
+def steps_around(context):
+    """The steps from the hole of a context to its top, triples (j, side, term).
+
+    The term stands on the right of the hole (side 0) or on its left (side 1).
+    """
+    steps = []
+    part = context
+    while part is not None:
+        j, left, right = part
+        if None in postfix(left):
+            steps.append((j, 0, right))
+            part = left
+        else:
+            steps.append((j, 1, left))
+            part = right
+    return steps[::-1]
+
+
+def context_around(steps):
+    """The context with these steps from its hole to its top, triples (j, side, term) as steps_around tells them."""
+    context = None
+    for j, side, term in steps:
+        context = (j, term, context) if side else (j, context, term)
+    return context

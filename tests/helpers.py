@@ -227,3 +227,23 @@ def children_by_web(bench, term):
     for x, y in web_of(bench, term).arrows:
         rows[x].append(y)
     return rows
+
+
+def counting_machine(bench, many, d, rest=0):
+    """The number of places in the last track (of all places, without tracks) leaves the rest by d."""
+    leaves = tuple(
+        tuple((bits >> many - 1 if many else 1) % d for bits in range(1 << many)) for _ in bench.starts
+    )
+    table = tuple(tuple((p + q) % d for q in range(d)) for p in range(d))
+    return Machine(bench, many, leaves, (table,) * len(bench), (rest,))
+
+
+def refused(case, error, call, told=None):
+    """That the call raises the error, and with what it tells."""
+    with case.assertRaises(error) as caught:
+        call()
+    if told is not None:
+        case.assertEqual(list(vars(caught.exception).values()), [told])
+
+
+BENCHES = list(NAMED.values()) + [WIDE]

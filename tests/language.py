@@ -255,7 +255,8 @@ class Package:
             for node in ast.walk(tree):
                 if isinstance(node, ast.ClassDef):
                     self.attributes |= attributes_of(node)
-                    self.attributes |= {part.name for part in node.body if isinstance(part, ast.FunctionDef)}
+                    self.attributes |= methods_of(node)
+                    self.attributes |= class_values_of(node)
 
 
 def names_bound_by(node, imports=True):
@@ -277,6 +278,50 @@ def attributes_of(node):
     for part in ast.walk(node):
         if isinstance(part, ast.Attribute) and isinstance(part.ctx, ast.Store):
             found.add(part.attr)
+    return found
+
+
+def methods_of(node):
+    return {part.name for part in node.body if isinstance(part, ast.FunctionDef)}
+
+
+def class_values_of(node):
+    return {target.id for part in node.body if isinstance(part, ast.Assign) for target in part.targets}
+
+
+def properties_of(node):
+    found = set()
+    for part in node.body:
+        if isinstance(part, ast.FunctionDef):
+            if any(getattr(decorator, "id", "") == "property" for decorator in part.decorator_list):
+                found.add(part.name)
+    return found
+
+
+def all_classes():
+    """The classes of the package."""
+    trees = [ast.parse(path.read_text(encoding="utf-8")) for path in sorted(PACKAGE.glob("*.py"))]
+    return [node for tree in trees for node in tree.body if isinstance(node, ast.ClassDef)]
+
+
+def doubled_names():
+    """Names of properties and class values that are also those of attributes or of other methods somewhere."""
+    classes = all_classes()
+    properties = set().union(*[properties_of(node) for node in classes])
+    values = set().union(*[class_values_of(node) for node in classes])
+    attributes = set().union(*[attributes_of(node) for node in classes])
+    methods = set().union(*[methods_of(node) - properties_of(node) for node in classes])
+    return sorted((properties | values) & (attributes | methods) | properties & values | attributes & methods)
+
+
+def impure_properties():
+    """Properties that do more than return what their object keeps, as far as their own rows tell."""
+    found = []
+    for node in all_classes():
+        for part in node.body:
+            if isinstance(part, ast.FunctionDef) and part.name in properties_of(node):
+                if any(isinstance(row, (ast.Assign, ast.AugAssign, ast.For, ast.While)) for row in ast.walk(part)):
+                    found.append(part.name)
     return found
 
 

@@ -4,12 +4,16 @@ import unittest
 
 from lotsayings.backs import back
 from lotsayings.benches import Bench
+from lotsayings.bests import best, ends
 from lotsayings.bounds import num_bound, order_of
+from lotsayings.closings import breaking, broken, closed_everywhere
 from lotsayings.compiler import machine_of
 from lotsayings.errors import BadText, LotError, TooGreat
+from lotsayings.families import Family
 from lotsayings.forms import tree_row, tree_term
 from lotsayings.founds import first_terms
 from lotsayings.gathers import Gather
+from lotsayings.greedy import exchanges, greedy
 from lotsayings.hanging import joins_alike
 from lotsayings.leasts import least
 from lotsayings.lots import lot_by
@@ -19,10 +23,12 @@ from lotsayings.meanings import fitting, means
 from lotsayings.numbers import number_of, number_row
 from lotsayings.partings import inseparable, is_parted, least_parting, parting
 from lotsayings.picks import can_pick, picked, picker
+from lotsayings.ranks import Rank, turns_of
+from lotsayings.relations import Relations
 from lotsayings.rings import counts_told, ring, run_in
 from lotsayings.sayings import free_names, put_in
 from lotsayings.steps import rows_without
-from lotsayings.terms import colour, hung, web_of
+from lotsayings.terms import colour, hung, size_of, web_of
 from lotsayings.texts import read_saying, written
 from lotsayings.unmoved import equal_children, is_unmoved, unmoved_lots
 from lotsayings.verdicts import always, parting_lots
@@ -121,6 +127,26 @@ class ExamplesTest(unittest.TestCase):
         self.assertEqual((number_of(apart, star), number_of(apart, star, inside=2)), (5, 11))
         for leaves in range(9):
             self.assertEqual(number_of(apart, hung((0, ()), (0, ()), times=leaves)), 2 ** leaves + 1)
+        self.assertEqual((Rank(apart).rank, turns_of(apart, (0, None, (0, ())), (0, ()))), (2, (2, -3, 1)))
+        sayings = [
+            ("in", "none", "X"), ("count", "X", 1, 2, 1), ("count", "X", 0, 1, 1),
+            ("or", ("count", "X", 0, 1, 1), ("in", "every", "X")),
+        ]
+        told = Relations(tuple(machine_of(saying, TREES) for saying in sayings))
+        self.assertEqual((told.rank, told.base, told.holds((0, 0, 2, -1))), (3, ((0, 0, -2, 1),), True))
+        self.assertEqual(told.row_of((0, (0, ()), (0, ()))), (4, 2, 1, 2))
+
+    def test_section_eight(self):
+        apart = machine_of(("not", ("to", "X", "X")), TREES)
+        star = (0, (0, (0, ()), (0, ())), (0, ()))
+        self.assertEqual((best(apart, star, (3, 2, 2)), ends(apart, star, (3, 2, 2))), (4, ((3, 4), (4, 3), (4, 3))))
+        self.assertEqual(Family.of(apart, star).tops(), ((0,), (1, 2)))
+        family = Family(3, [(0,), (2, 1)])
+        self.assertEqual((broken(family, "or"), broken(family, "even")), (((0,), (1, 2)), None))
+        self.assertEqual((greedy(family, (3, 2, 2)), exchanges(family)), ((0,), False))
+        saying = ("to", "every", "X")
+        self.assertIs(closed_everywhere(saying, "X", TREES, "or"), True)
+        self.assertEqual(size_of(breaking(saying, "X", TREES, "and")[0]), 3)
 
 
 class BuildingsTest(unittest.TestCase):

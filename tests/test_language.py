@@ -36,6 +36,13 @@ INTERFACE = {
     "picks": "can_pick no_pick picked picker greatest_saying",
     "numbers": "number_row number_of rests_of rest_term",
     "fractions": "solved rank_of determinant kernel",
+    "relations": "Relations as_many",
+    "ranks": "Rank turns_of",
+    "bests": "best best_many best_lot ends Weigh",
+    "families": "Family",
+    "closings": "broken closing_saying closed_everywhere breaking",
+    "against": "weights_against holds_against best_same best_against",
+    "greedy": "greedy exchanges greedy_against",
 }
 CLASSES = {
     "Web": "__init__ __eq__ __len__ __iter__ arrow sent renumbered of_lot",
@@ -44,6 +51,10 @@ CLASSES = {
     "Answer": "__init__ __call__",
     "Gather": "__init__ __len__ __iter__ __contains__ number one some_of made meets",
     "MarkTable": "__init__ __iter__ number mark_of tree_for fits picks",
+    "Relations": "__init__ terms rank told_rows base row_of holds broken_at share_of",
+    "Rank": "__init__ rank contexts terms table told_by",
+    "Weigh": "__init__ __call__",
+    "Family": "__init__ __contains__ __len__ __iter__ __eq__ __and__ __or__ of tops top_weight best_family held looks",
 }
 
 
@@ -56,6 +67,10 @@ class LanguageTest(unittest.TestCase):
 
     def test_no_circles(self):
         self.assertEqual(language.in_circles(), [])
+
+    def test_names_of_properties(self):
+        self.assertEqual(language.doubled_names(), [])
+        self.assertEqual(language.impure_properties(), [])
 
     def test_interface_is_defined_where_it_is_listed(self):
         package = language.Package()

@@ -114,10 +114,10 @@ def best_against(machine, other, *, floor=None):
         own = holders(machine)
         others = holders(other)
         found = [giving_term(machine, others), giving_term(other, own)]
-    terms = [term for term in found if term is not None]
-    if not terms:
+    known = [(size_of(term), at) for at, term in enumerate(found) if term is not None]
+    if not known:
         return None
-    term = min(terms, key=size_of)
+    term = found[min(known)[1]]
     tracks = tracks_of(term)
     low = -1 if floor is None else 0
     return colour(term, tracks[:-1]), tuple([1 if place in tracks[-1] else low for place in range(size_of(term))])

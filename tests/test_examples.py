@@ -14,6 +14,7 @@ from lotsayings.forms import tree_row, tree_term
 from lotsayings.founds import first_terms
 from lotsayings.gathers import Gather
 from lotsayings.greedy import exchanges, greedy
+from lotsayings.growth import Growth
 from lotsayings.hanging import joins_alike
 from lotsayings.leasts import least
 from lotsayings.lots import lot_by
@@ -23,11 +24,16 @@ from lotsayings.meanings import fitting, means
 from lotsayings.numbers import number_of, number_row
 from lotsayings.partings import inseparable, is_parted, least_parting, parting
 from lotsayings.picks import can_pick, picked, picker
+from lotsayings.prices import Prices, at_most
+from lotsayings.pumped import map_of, pumped_size, pumped_state
 from lotsayings.ranks import Rank, turns_of
 from lotsayings.relations import Relations
 from lotsayings.rings import counts_told, ring, run_in
 from lotsayings.sayings import free_names, put_in
+from lotsayings.shares import Shares
+from lotsayings.sizes import Sizes
 from lotsayings.steps import rows_without
+from lotsayings.tables import LeastSizes, least_size
 from lotsayings.terms import colour, hung, size_of, web_of
 from lotsayings.texts import read_saying, written
 from lotsayings.unmoved import equal_children, is_unmoved, unmoved_lots
@@ -147,6 +153,39 @@ class ExamplesTest(unittest.TestCase):
         saying = ("to", "every", "X")
         self.assertIs(closed_everywhere(saying, "X", TREES, "or"), True)
         self.assertEqual(size_of(breaking(saying, "X", TREES, "and")[0]), 3)
+
+
+    def test_section_nine(self):
+        below = machine_of(("all", "x", ("or", ("not", ("in", "x", "X")), ("to", "x", "Y"))), TREES)
+        self.assertEqual((at_most(below, 0, 1), at_most(below, 1, 0)), (0, None))
+        low = ("and", ("in", "x", "X"), ("arrows", "x", "every", 0, 3, 1))
+        high = ("and", ("not", ("in", "x", "X")), ("arrows", "x", "every", 2, 3, 1))
+        full = machine_of(("all", "x", ("or", low, high)), TREES)
+        sizes = Sizes(full)
+        self.assertEqual(Shares(full, 0).fixed, ((1, 2), (1, 2)))
+        self.assertEqual((sizes.start, sizes.period, sizes.members, sizes.rests, 10 ** 9 in sizes), (0, 2, (), (1,), False))
+        even = Machine(TREES, 0, ((0,),), (((1, 0), (0, 1)),), (1,))
+        hang = (0, None, (0, ()))
+        prices = Prices(even, (-1,))
+        state = pumped_state(even, None, hang, 999999999, (0, ()))
+        size = pumped_size(None, hang, 999999999, (0, ()))
+        self.assertEqual((map_of(even, hang), state, size), ((1, 0), 1, 1000000000))
+        self.assertEqual((prices.bound, prices.prices), (-2, (-1, -2)))
+
+    def test_section_ten(self):
+        rows = Bench.narrow_rows()
+        one = Growth(machine_of(("or", ("count", "X", 0, 2, 1), ("count", "X", 1, 2, 1)), rows))
+        any_lot = Growth(machine_of(("in", "X", "every"), rows))
+        empty = Growth(machine_of(("in", "X", "none"), rows))
+        self.assertEqual((one.kind, one.links, one.greatest), ("power", 1, None))
+        self.assertEqual((any_lot.kind, any_lot.links), ("double", None))
+        self.assertEqual((empty.kind, empty.links, empty.greatest), ("bounded", 0, 1))
+        near = ("all", "x", ("or", ("in", "x", "X"), ("or", ("to", "x", "X"), ("to", "X", "x"))))
+        some = LeastSizes(machine_of(("not", ("in", "X", "none")), rows))
+        machine = machine_of(near, rows)
+        leaf = (0, ())
+        self.assertEqual((some.bounded, some.greatest, LeastSizes(machine).bounded), (True, 1, False))
+        self.assertEqual(least_size(machine, (0, (0, (0, leaf, leaf), leaf), leaf)), 2)
 
 
 class BuildingsTest(unittest.TestCase):

@@ -43,6 +43,13 @@ INTERFACE = {
     "closings": "broken closing_saying closed_everywhere breaking",
     "against": "weights_against holds_against best_same best_against",
     "greedy": "greedy exchanges greedy_against",
+    "prices": "gain Prices at_most",
+    "shares": "Shares",
+    "sizes": "Sizes",
+    "pumped": "map_of pumped_state pumped_size",
+    "narrow": "Narrow",
+    "growth": "Growth",
+    "tables": "least_size LeastSizes",
 }
 CLASSES = {
     "Web": "__init__ __eq__ __len__ __iter__ arrow sent renumbered of_lot",
@@ -55,6 +62,12 @@ CLASSES = {
     "Rank": "__init__ rank contexts terms table told_by",
     "Weigh": "__init__ __call__",
     "Family": "__init__ __contains__ __len__ __iter__ __eq__ __and__ __or__ of tops top_weight best_family held looks",
+    "Prices": "__init__ bounded bound top prices loop",
+    "Shares": "__init__ highest lowest over under loop_high loop_low fixed",
+    "Sizes": "__init__ __contains__ start period members rests term state_sizes",
+    "Narrow": "__init__ live firsts letters first_row ways word total",
+    "Growth": "__init__ kind links chain double_loop number_rows greatest pumped",
+    "LeastSizes": "__init__ bounded greatest top size_rows row_of pumped",
 }
 
 

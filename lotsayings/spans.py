@@ -7,6 +7,7 @@ rows is linear in each of them, so what holds for a base holds for the rows of a
 from lotsayings.founds import useful
 from lotsayings.fractions import first_not_zero, in_lowest
 from lotsayings.machines import bits_of
+from lotsayings.quotients import columns_of
 from lotsayings.walks import context_around, postfix
 
 
@@ -28,6 +29,12 @@ def lessened(rest, row):
         elif i != at:
             found.append(in_lowest([products[at] * x - products[i] * y for x, y in zip(other, rest[at])]))
     return found
+
+
+def mixed(rows):
+    """A combination of rows with unlike numbers: what makes 0 with it makes 0 with each row, but for rare chances."""
+    times = [1 + at * 7919 % 101 for at in range(len(rows))]
+    return [dot(times, column) for column in columns_of(rows)]
 
 
 def units(width):
@@ -121,7 +128,8 @@ class Span:
     """Terms whose rows are a base of the rows of all terms, terms with few places first.
 
     rest holds a base of the rows that make 0 with all rows so far. The rows of leaves are joined with each row on
-    either side; when this gives nothing new, all pairs are tried.
+    either side; when this gives nothing new, one row after the other is joined with those kept before it: what is a
+    combination then stays one. To find what is none, this is done with a mixed row first, and in the end with all.
     """
 
     def __init__(self, rows):
@@ -132,12 +140,16 @@ class Span:
             self.offer(1, leaf, row)
         self.leaves = list(self.found)
         self.hang_leaves(0)
-        pair = self.pair_outside()
-        while pair is not None:
-            done = len(self.found)
-            self.offer_join(*pair)
-            self.hang_leaves(done)
-            pair = self.pair_outside()
+        for exact in (False, True):
+            at = 0
+            while at < len(self.found) and self.rest:
+                pair = self.pair_outside(at, self.rest if exact else [mixed(self.rest)])
+                if pair is None:
+                    at += 1
+                else:
+                    done = len(self.found)
+                    self.offer_join(*pair)
+                    self.hang_leaves(done)
         self.found = sorted(self.found, key=lambda told: told[0])
 
     def offer(self, size, term, row):
@@ -161,18 +173,18 @@ class Span:
                     self.offer_join(j, leaf, one)
             done += 1
 
-    def pair_outside(self):
-        """A join and two of those kept, of the fewest places, whose join is no combination; None if there is none."""
-        for view in self.rest:
-            best = None
+    def pair_outside(self, at, views):
+        """A join and two of those kept, number at and one up to it, whose join does not make 0 with some view."""
+        last = self.found[at]
+        for view in views:
             for j in range(len(self.algebra.pairs_of)):
-                for two in self.found:
-                    row = self.algebra.before(j, view, 0, two[2])
-                    for one in self.found:
-                        if (best is None or one[0] + two[0] < best[0]) and dot(row, one[2]) != 0:
-                            best = (one[0] + two[0], (j, one, two))
-            if best is not None:
-                return best[1]
+                right = self.algebra.before(j, view, 0, last[2])
+                left = self.algebra.before(j, view, 1, last[2])
+                for one in self.found[:at + 1]:
+                    if dot(right, one[2]) != 0:
+                        return j, one, last
+                    if dot(left, one[2]) != 0:
+                        return j, last, one
         return None
 
 
@@ -180,7 +192,8 @@ class Views:
     """Contexts whose numbers at terms tell those in all contexts, for one machine.
 
     A view is a row that makes with the row of a term the number in a context. rest holds a base of the rows of terms
-    that make 0 with all views so far.
+    that make 0 with all views so far. As in a span, leaves are hung first, then all terms on one context after the
+    other.
     """
 
     def __init__(self, span):
@@ -191,12 +204,16 @@ class Views:
         accepted = self.algebra.accepted[0]
         self.offer(0, (), [1 if state in accepted else 0 for state in range(self.algebra.width)])
         self.hang_leaves(0)
-        way = self.way_outside()
-        while way is not None:
-            done = len(self.found)
-            self.offer_around(*way)
-            self.hang_leaves(done)
-            way = self.way_outside()
+        for exact in (False, True):
+            at = 0
+            while at < len(self.found) and self.rest:
+                way = self.way_outside(self.found[at], self.rest if exact else [mixed(self.rest)])
+                if way is None:
+                    at += 1
+                else:
+                    done = len(self.found)
+                    self.offer_around(*way)
+                    self.hang_leaves(done)
 
     def offer(self, size, steps, view):
         """Keeps a context, by its steps from the top to the hole, if its view is independent of those kept."""
@@ -220,20 +237,15 @@ class Views:
                         self.offer_around(one, j, side, leaf)
             done += 1
 
-    def way_outside(self):
-        """A context kept and a step around its hole, of the fewest places, that tells more; None if there is none."""
-        for row in self.rest:
-            best = None
-            for one in self.found:
-                for j in range(len(self.algebra.pairs_of)):
-                    for side in (0, 1):
-                        view = self.algebra.before(j, one[2], 1 - side, row)
-                        for told in self.span.found:
-                            size = one[0] + told[0]
-                            if (best is None or size < best[0]) and dot(view, told[2]) != 0:
-                                best = (size, (one, j, side, told))
-            if best is not None:
-                return best[1]
+    def way_outside(self, one, rows):
+        """A context kept and a step around its hole with which it does not make 0 with some row, None without one."""
+        for row in rows:
+            for j in range(len(self.algebra.pairs_of)):
+                for side in (0, 1):
+                    view = self.algebra.before(j, one[2], 1 - side, row)
+                    for told in self.span.found:
+                        if dot(view, told[2]) != 0:
+                            return one, j, side, told
         return None
 
     def numbers_at(self, row):

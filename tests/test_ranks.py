@@ -1,6 +1,7 @@
 import unittest
 from fractions import Fraction
 from math import gcd
+from unittest.mock import patch
 
 from lotsayings.benches import Bench
 from lotsayings.bounds import num_bound
@@ -116,6 +117,14 @@ class RankTest(unittest.TestCase):
             self.assertEqual(Rank(machine).rank, 40)
         self.assertEqual(Rank(counting_machine(TREES, 1, 60)).rank, 59)
         self.assertEqual(Rank(counting_machine(TREES, 1, 75)).rank, 75)
+
+    def test_mixed_rows_that_show_nothing(self):
+        chance = seeded(979)
+        machines = [chance_machine(chance, bench, 1, states) for bench in BENCHES for states in (3, 5, 7)]
+        machines += [one & counting_machine(one.bench, 1, 3) for one in machines]
+        ranks = [Rank(machine).rank for machine in machines]
+        with patch("lotsayings.spans.mixed", lambda rows: [0] * len(rows[0])):
+            self.assertEqual([Rank(machine).rank for machine in machines], ranks)
 
     def test_rings(self):
         chance = seeded(975)

@@ -113,7 +113,7 @@ class Narrow:
         """For all states p, q in how many ways the letter leads p to q, if both are live."""
         if not are_plain(letter) or letter not in self.moves:
             raise BadNumber("letter")
-        states = range(self.machine.states)
+        states = list(range(self.machine.states))
         goals = [[q for _, q in pairs] for pairs in self.moves[letter]]
         return tuple([tuple([row.count(q) for q in states]) for row in goals])
 

@@ -62,6 +62,22 @@ class FamiliesTest(unittest.TestCase):
                 self.check_lattice(family)
                 self.check_holds(family)
 
+    def test_what_all_weights_tell(self):
+        for size in (1, 2, 3):
+            for family in families_of(size):
+                if not family.lots:
+                    continue
+                meet = set.intersection(*[set(lot) for lot in family])
+                union = set.union(*[set(lot) for lot in family])
+                for weights in product(range(-2, 3), repeat=size):
+                    if weights_against(family, "box") is None:
+                        told = weight(meet, weights) + sum(max(0, weights[place]) for place in union - meet)
+                        self.assertEqual(family.top_weight(weights), told)
+                    if weights_against(family, "or-and") is None:
+                        tops = family.best_family(weights).lots
+                        self.assertTrue(any(all(set(one) <= set(other) for one in tops) for other in tops))
+                        self.assertTrue(any(all(set(one) >= set(other) for one in tops) for other in tops))
+
     def test_chance_families(self):
         chance = seeded(1091)
         for _ in range(150):

@@ -48,7 +48,7 @@ class Heights:
         return ways
 
     def best_state(self):
-        """The accepted state with the greatest weight, its weight and its number of lots; None if none is there."""
+        """The accepted state with the greatest weight of a lot, None if no lot fits."""
         known = self.found[-1]
         ways = [(known[state][0], state) for state in self.machine.accepted if state in known]
         return max(ways)[1] if ways else None
@@ -82,19 +82,19 @@ class Heights:
 
     def outsides(self):
         """For each part a dict from states to the greatest weight outside of it with which they lead on to accepted."""
-        found = [{} for _ in self.nodes]
-        found[-1] = {state: 0 for state in self.machine.accepted}
+        outer = [{} for _ in self.nodes]
+        outer[-1] = {state: 0 for state in self.machine.accepted}
         for at in range(len(self.nodes) - 1, -1, -1):
             j, left, right = self.nodes[at]
             if right is not None:
                 table = self.machine.rows[j]
                 for p, one in self.found[left].items():
                     for q, two in self.found[right].items():
-                        if table[p][q] in found[at]:
-                            weight = found[at][table[p][q]]
-                            raise_to(found[left], p, weight + two[0])
-                            raise_to(found[right], q, weight + one[0])
-        return found
+                        if table[p][q] in outer[at]:
+                            weight = outer[at][table[p][q]]
+                            raise_to(outer[left], p, weight + two[0])
+                            raise_to(outer[right], q, weight + one[0])
+        return outer
 
 
 def united(ways):

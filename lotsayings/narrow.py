@@ -152,7 +152,8 @@ def come_to(states, goals):
     met = {state: True for state in states}
     todo = list(met)
     while todo:
-        for goal in goals[todo.pop()]:
+        state = todo.pop()
+        for goal in goals[state]:
             if goal not in met:
                 met[goal] = True
                 todo.append(goal)

@@ -1,11 +1,12 @@
 import unittest
+from unittest import mock
 
 from lotsayings.benches import Bench
 from lotsayings.compiler import machine_of
 from lotsayings.errors import BadNumber, TooMany
 from lotsayings.leasts import least
 from lotsayings.machines import Machine
-from lotsayings.sizes import Sizes
+from lotsayings.sizes import LONGEST, MOST_REPEAT, Sizes, States, repeat_of
 from lotsayings.terms import check_term, size_of
 from lotsayings.verdicts import agree, parting_term
 from tests.helpers import BENCHES, NAMED, chance_machine, counting_machine, refused, seeded, small_terms
@@ -55,6 +56,28 @@ def walk_machine(bench, goals, accepted, ends=0):
     for p in range(dead + 1):
         rows.append(tuple(goals[p] if p < dead and q == ends else dead for q in range(dead + 1)))
     return Machine(bench, 0, ((ends,),), (tuple(rows),), accepted)
+
+
+def doubling_machine(times):
+    """A machine of the terms whose two halves are as large, and theirs again, with 2^times leaves."""
+    dead = times + 1
+    rows = [[dead] * (dead + 1) for _ in range(dead + 1)]
+    for p in range(times):
+        rows[p][p] = p + 1
+    return Machine(TREES, 0, ((0,),), (tuple(map(tuple, rows)),), (times,))
+
+
+def late_machine(period):
+    """States go round with the size, until the first join of two terms of the last state, which breaks the circle."""
+    rows = [[(p + q + 1) % period for q in range(period)] + [period] for p in range(period)]
+    rows[-1][period - 1] = period
+    rows.append([period] * (period + 1))
+    return Machine(TREES, 0, ((0,),), (tuple(map(tuple, rows)),), (period - 1,))
+
+
+def told_of(machine):
+    told = Sizes(machine)
+    return told.start, told.period, told.members, told.rests
 
 
 class SizesTest(unittest.TestCase):
@@ -110,6 +133,60 @@ class SizesTest(unittest.TestCase):
         self.assertEqual(told(("or", ("count", "every", 1, 2, 1), ("count", "every", 3, 4, 1))), (4, 1, (1, 3), ()))
         self.assertEqual(told(("not", ("count", "every", 3, 4, 1))), (4, 1, (1, 2), (0,)))
         self.assertEqual(told(("or", ("count", "every", 0, 0, 2), ("count", "every", 1, 2, 1))), (2, 2, (1,), (0,)))
+
+    def test_small_machines(self):
+        even = Machine(TREES, 0, ((0,),), (((1, 0), (0, 1)),), (1,))
+        self.assertEqual(told_of(even), (1, 2, (), (0,)))
+        self.assertEqual([Sizes(even).state_sizes(0), Sizes(even).state_sizes(1)], [(0, 2, (), (1,)), (1, 2, (), (0,))])
+        self.check(even)
+        third = Machine(TREES, 0, ((1,),), (((0, 1, 2), (1, 2, 0), (2, 0, 1)),), (0, 2))
+        self.assertEqual(told_of(third), (1, 3, (), (0, 2)))
+        self.check(third)
+        # Rows of up to five places, and one more state for all other terms.
+        ends = Machine(TREES, 0, ((0,),), (tuple(
+            tuple(p + 1 if p < 5 and q == 0 else 6 for q in range(7)) for p in range(7)
+        ),), (0, 2, 5))
+        self.assertEqual(told_of(ends), (7, 1, (1, 3, 6), ()))
+        self.assertEqual(told_of(ends.accepting((0, 6))), (3, 1, (1,), (0,)))
+        self.check(ends)
+        self.check(ends.accepting((0, 6)))
+        many = counting_machine(TREES, 0, 30, 7)
+        self.assertEqual(told_of(many), (0, 30, (), (7,)))
+        self.check(many.accepting((1, 6, 11, 16, 21, 26)), 120)
+        self.assertEqual(told_of(many.accepting((1, 6, 11, 16, 21, 26))), (0, 5, (), (1,)))
+        self.check(many.accepting((0, 7, 10, 20)), 120)
+
+    def test_late_breaks(self):
+        # Up to 2 * period - 1 places the states of all sizes repeat as if they did for ever.
+        for period in range(1, 31):
+            machine = late_machine(period)
+            self.check(machine, 60 + 5 * period)
+            self.assertEqual(told_of(machine), (1, period, (), (0,)) if period > 1 else (2, 1, (1,), ()))
+            self.assertEqual(told_of(machine.accepting((period,))), (2 * period, 1, (), (0,)))
+        for times in range(7):
+            told = Sizes(doubling_machine(times))
+            self.assertEqual((told.start, told.period, told.members, told.rests), (2 ** times + 1, 1, (2 ** times,), ()))
+        self.check(doubling_machine(4))
+        self.assertEqual(told_of(doubling_machine(7)), (129, 1, (128,), ()))
+        refused(self, TooMany, lambda: Sizes(doubling_machine(8)), "sizes")
+
+    def test_rows_that_tell(self):
+        # A row tells start and period exactly if it goes up to twice their sum less 2.
+        self.assertEqual(LONGEST, 2 * MOST_REPEAT - 1)
+        for start in range(1, 9):
+            for period in range(1, 9):
+                whole = [-n for n in range(start)] + list(range(1, period + 1)) * 20
+                enough = 2 * (start + period) - 1
+                for length in range(2, 90):
+                    told = repeat_of(whole[:length])
+                    self.assertEqual(told, (start, period) if length >= enough else None)
+
+    def test_work_goes_with_what_is_told(self):
+        # So that a small machine is answered at once, states are not made for far more sizes than must be known.
+        for d in (1, 2, 3, 7, 30, 99, 199):
+            with mock.patch.object(States, "note", autospec=True, side_effect=States.note) as note:
+                told = Sizes(counting_machine(TREES, 0, d))
+            self.assertLessEqual(note.call_count, 3 * (told.start + told.period) + 3)
 
     def test_great_numbers(self):
         odd = Sizes(machine_of(("count", "every", 1, 0, 2), TREES))
